@@ -63,7 +63,7 @@ func Own(h []api.Object) []api.Object {
 
 // New is h with one more object, and that object as a value.
 func New(h []api.Object, class, slots int) ([]api.Object, api.Value, api.Errno) {
-	// More slots than any answer may have are refused, since make would panic.
+	// More slots than any answer may have are refused: make might panic, or find no memory.
 	if len(h) >= api.MaxHeap || slots > math.MaxInt32 {
 		return nil, api.Value{}, api.ErrFull
 	}
